@@ -1,0 +1,1 @@
+"""Fastestalong: a controller of machine tools, exact in all it tells."""

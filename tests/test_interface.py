@@ -1,0 +1,67 @@
+"""The interface: each name in its file, with its arguments in their sequence."""
+
+import ast
+import importlib
+import inspect
+import os
+import unittest
+
+INTERFACE = {
+    "errors": {
+        "CourseError": None, "InvalidFraction": None, "InvalidWay": None, "InvalidIndex": None,
+        "InvalidCount": None, "InvalidPart": None, "Refused": None, "InvalidProgram": "place",
+        "InvalidLimits": "index", "InvalidCourse": "index", "InvalidText": "index", "InvalidCommand": "index",
+        "TooMany": "count", "Unknown": "word", "Twice": "word",
+    },
+    "fractions": {
+        "is_fraction": "value", "fraction": "top bottom", "plus": "one other", "minus": "one other",
+        "times": "one other", "over": "one other", "below": "one other", "sum_of": "numbers",
+        "root": "number digits", "fraction_text": "number", "fraction_told": "text",
+    },
+    "programs": {
+        "program_fault": "value", "is_program": "value", "limits_fault": "program value",
+        "is_limits": "program value", "axis_count": "program", "path": "program", "moved": "program shift",
+        "backwards": "program", "grown": "program factor", "grown_limits": "program limits factor",
+        "led": "program order", "led_limits": "program limits order",
+    },
+    "moves": {
+        "lengths": "program", "directions": "program", "ways": "program", "whole": "program",
+        "move_at": "program way", "point_at": "program way", "caps": "program limits",
+        "pulls": "program limits", "turn_caps": "program limits",
+    },
+}
+
+
+class TestInterface(unittest.TestCase):
+    def test_names_and_arguments(self):
+        for file, names in INTERFACE.items():
+            module = importlib.import_module(f"fastestalong.{file}")
+            for name, arguments in names.items():
+                told = getattr(module, name)
+                self.assertEqual(told.__module__, module.__name__, name)
+                if arguments is None:
+                    continue
+                parameters = inspect.signature(told).parameters.values()
+                self.assertEqual([parameter.name for parameter in parameters], arguments.split(), name)
+                for parameter in parameters:
+                    self.assertEqual(parameter.kind, inspect.Parameter.POSITIONAL_OR_KEYWORD, name)
+                    self.assertIs(parameter.default, inspect.Parameter.empty, name)
+
+    def test_each_is_defined_in_its_file(self):
+        for file, names in INTERFACE.items():
+            module = importlib.import_module(f"fastestalong.{file}")
+            with open(module.__file__, encoding="utf-8") as source:
+                body = ast.parse(source.read()).body
+            defined = [part.name for part in body if isinstance(part, (ast.FunctionDef, ast.ClassDef))]
+            for name in names:
+                self.assertEqual(defined.count(name), 1, name)
+
+    def test_the_package_is_one_folder_of_python_files(self):
+        folder = os.path.dirname(importlib.import_module("fastestalong").__file__)
+        self.assertTrue(os.path.exists(os.path.join(folder, "__init__.py")))
+        for name in os.listdir(folder):
+            self.assertTrue(name.endswith(".py") or name == "__pycache__", name)
+
+
+if __name__ == "__main__":
+    unittest.main()
