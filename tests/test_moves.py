@@ -186,7 +186,7 @@ class TestTurnCaps(unittest.TestCase):
         self.check(program_of([(0, 0), (4, 2), (8, 2)]), limits, [0, 100, 0])
 
 
-class TestWrongLimits(unittest.TestCase):
+class TestWhatDoesNotMatter(unittest.TestCase):
     def test_the_last_stop_means_nothing_here(self):
         stopped = with_part(PROGRAM, 1, 3, True)
         for call in (caps, pulls, turn_caps):

@@ -107,7 +107,7 @@ class TestOrderOfErrors(unittest.TestCase):
                     with self.assertRaises(wrong[0][1]):
                         call(**told)
 
-    def test_a_square_of_nought_is_divided_by_nothing_else(self):
+    def test_numbers_that_are_fractions_and_still_are_not_taken(self):
         with self.assertRaises(InvalidFraction):
             fractions.over((1, 2), (0, 1))
         with self.assertRaises(InvalidFraction):
