@@ -32,22 +32,46 @@ def added(one, other):
 
 def subtracted(one, other):
     """One fraction less the other one."""
-    return added(one, (-other[0], other[1]))
+    return added(one, opposite(other))
 
 
 def multiplied(one, other):
     """The product of two fractions."""
-    return reduced(one[0] * other[0], one[1] * other[1])
+    top, bottom = one
+    other_top, other_bottom = other
+    # Divided out ahead of the products, where the numbers are shorter.
+    common = gcd(top, other_bottom)
+    other_common = gcd(other_top, bottom)
+    return (
+        (top // common) * (other_top // other_common),
+        (bottom // other_common) * (other_bottom // common),
+    )
+
+
+def inverse(number):
+    """1 divided by a fraction that is not 0."""
+    top, bottom = number
+    return (bottom, top) if top > 0 else (-bottom, -top)
 
 
 def divided(one, other):
     """One fraction divided by the other one, which is not 0."""
-    return reduced(one[0] * other[1], one[1] * other[0])
+    return multiplied(one, inverse(other))
+
+
+def twice(number):
+    """The fraction with itself added."""
+    return multiplied((2, 1), number)
 
 
 def squared(number):
     """The fraction times itself."""
     return (number[0] * number[0], number[1] * number[1])
+
+
+def opposite(number):
+    """0 less the fraction."""
+    return (-number[0], number[1])
 
 
 def absolute(number):
@@ -58,6 +82,13 @@ def absolute(number):
 def is_less(one, other):
     """Whether one fraction is less than the other one."""
     return one[0] * other[1] < other[0] * one[1]
+
+
+def side(one, other):
+    """-1, 0 or 1 as one fraction is less than the other one, the same, or greater."""
+    if one == other:
+        return 0
+    return -1 if is_less(one, other) else 1
 
 
 def smallest(numbers):

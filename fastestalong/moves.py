@@ -2,7 +2,7 @@
 
 from fastestalong.errors import InvalidWay
 from fastestalong.exact import (
-    NOUGHT, absolute, added, divided, is_less, largest, multiplied, smallest, squared, subtracted,
+    NOUGHT, absolute, added, divided, is_less, largest, multiplied, smallest, squared, subtracted, twice,
 )
 from fastestalong.fractions import is_fraction
 from fastestalong.programs import check_limits, path
@@ -95,6 +95,11 @@ def pulls(program, limits):
     check_limits(program, limits)
     rates = [axis[1] for axis in limits]
     return tuple(smallest(path_bounds(direction, rates)) for direction in directions(program))
+
+
+def swings(program, limits):
+    """By how much the square can change along each move: twice the pull times the length."""
+    return [twice(multiplied(pull, length)) for pull, length in zip(pulls(program, limits), lengths(program))]
 
 
 def turn_cap(ahead, behind, jumps):

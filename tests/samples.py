@@ -146,3 +146,62 @@ def with_part(program, index, member, value):
 def line_program(many):
     """A program of so many steps along one axis."""
     return (((0, 1),), tuple((((k + 1, 1),), (2, 1), (0, 1), False) for k in range(many)))
+
+
+def course_of(*rows):
+    """The package's course of pairs of numbers."""
+    return tuple(pairs(row) for row in rows)
+
+
+# Of the program above; its last way is 7.
+COURSE = course_of((0, 0), (2, 1), (4, Fraction(1, 4)), (Fraction(11, 2), Fraction(5, 2)), (7, 0))
+
+
+def some_course(chance, many, whole=None):
+    """A course of so many members, with squares 0 here and there, but never two of them behind one another."""
+    at, rows = Fraction(0), []
+    for _ in range(many):
+        square = some_number(chance, 0, 20)
+        if chance.random() < 0.1 and not (rows and rows[-1][1] == 0):
+            square = Fraction(0)
+        elif square == 0:
+            square = Fraction(1, 3)
+        rows.append((at, square))
+        at += some_number(chance, 1, 5)
+    if whole is not None and many > 1:
+        factor = Fraction(whole) / rows[-1][0]
+        rows = [(way * factor, square) for way, square in rows]
+    return course_of(*rows)
+
+
+def wrong_courses(course):
+    """Values that are nearly this course and are none, with the index of their fault; it has three members or more."""
+    last = len(course) - 1
+    yield list(course), 0
+    yield Row(course), 0
+    yield (course,), 0
+    yield course + (course[-1],), last + 1
+    yield course + (course[0],), last + 1
+    yield course + ((),), last + 1
+    yield course[1:], 0
+    yield course[::-1], 0
+    for index, (way, square) in enumerate(course):
+        for member in (
+            None, (), (way,), (way, square, square), [way, square], Row((way, square)), way, "", 0, True,
+            (way, (-1, 10 ** 90)), (way, (-1, 1)), (way, 1), (way, (2, 4)), (way, (True, 1)), (way, None),
+            (way, list(square)), (None, square), (0, square), ([0, 1], square), ((2, 4), square), ((False, 1), square),
+            ((-1, 1), square), ((-1, 10 ** 90), square),
+        ):
+            yield with_member(course, index, member), index
+        if index == 0:
+            yield with_member(course, index, ((1, 10 ** 90), square)), index
+        else:
+            yield with_member(course, index, (course[index - 1][0], square)), index
+            yield course[:index] + course[index - 1:], index
+            yield with_member(course, index, ((number(course[index - 1][0]) - Fraction(1, 10 ** 90)), square)), index
+            nearly = pair(number(course[index - 1][0]) - Fraction(1, 10 ** 90))
+            yield with_member(course, index, (nearly, square)), index
+    for index in range(1, last):
+        turned = course[:index] + (course[index + 1], course[index]) + course[index + 2:]
+        yield turned, index + 1
+        yield with_member(with_member(course, index, None), last, None), index

@@ -1,11 +1,15 @@
-"""The examples that stand in points [6], [7] and [8] of the document."""
+"""The examples that stand in points [6] to [12] of the document."""
 
 import unittest
 
+from fastestalong.ahead import ahead, enough, slower
+from fastestalong.courses import greatest, is_below, judged, square_at
 from fastestalong.errors import InvalidText
 from fastestalong.fractions import fraction, fraction_text, fraction_told, over, root, sum_of
+from fastestalong.leasts import bar, sums
 from fastestalong.moves import caps, directions, lengths, move_at, point_at, pulls, turn_caps, ways
 from fastestalong.programs import backwards, led, limits_fault, path, program_fault
+from fastestalong.times import exact_time, is_by, pace, sooner, told_time
 
 PROGRAM = (
     ((0, 1), (0, 1)),
@@ -17,6 +21,13 @@ SLANTING = (
     ((((4, 1), (2, 1)), (10, 1), (0, 1), False), (((8, 1), (2, 1)), (10, 1), (0, 1), False)),
 )
 TIGHT = (((4, 1), (5, 1), (9, 1)), ((1, 1), (5, 1), (1, 2)))
+
+# From point [9] on the document has another program.
+CORNER = (
+    ((0, 1), (0, 1)),
+    ((((8, 1), (0, 1)), (4, 1), (0, 1), False), (((8, 1), (6, 1)), (3, 1), (0, 1), False)),
+)
+BOUNDS = (((10, 1), (2, 1), (1, 1)), ((10, 1), (1, 1), (2, 1)))
 
 
 class TestExamples(unittest.TestCase):
@@ -63,6 +74,53 @@ class TestExamples(unittest.TestCase):
         self.assertEqual(
             [directions(SLANTING)[0], caps(SLANTING, TIGHT), pulls(SLANTING, TIGHT), turn_caps(SLANTING, TIGHT)[1]],
             [((1, 1), (1, 2)), ((4, 1), (16, 1)), ((5, 1), (5, 1)), (1, 1)],
+        )
+
+    def test_courses(self):
+        fastest = (
+            ((0, 1), (0, 1)), ((4, 1), (16, 1)), ((17, 4), (16, 1)), ((8, 1), (1, 1)), ((43, 4), (13, 2)),
+            ((14, 1), (0, 1)),
+        )
+        self.assertEqual(greatest(CORNER, BOUNDS), fastest)
+        slow = (((0, 1), (0, 1)), ((7, 1), (1, 1)), ((14, 1), (0, 1)))
+        self.assertEqual(
+            [judged(CORNER, BOUNDS, slow), square_at(slow, (7, 2)), is_below(slow, greatest(CORNER, BOUNDS))],
+            [None, (1, 2), True],
+        )
+        for course, told in (
+            ((((0, 1), (0, 1)), ((8, 1), (2, 1)), ((14, 1), (0, 1))), ("turn", (8, 1))),
+            ((((0, 1), (0, 1)), ((1, 8), (1, 1)), ((14, 1), (0, 1))), ("pull", (0, 1))),
+        ):
+            self.assertEqual(judged(CORNER, BOUNDS, course), told)
+
+    def test_leasts(self):
+        first, second = CORNER[1]
+        quick = (CORNER[0], (
+            first, (second[0], (3, 1), (1, 1), False), (((20, 1), (6, 1)), (3, 1), (0, 1), False),
+        ))
+        self.assertEqual(
+            [sums(quick, BOUNDS), bar(quick, BOUNDS)],
+            [(((8, 1), (8, 1), (8, 1)), ((0, 1), (8, 1), (31, 1)), ((8, 1), (8, 1), (0, 1)),
+              ((14, 1), (14, 1), (0, 1)), ((26, 1), (14, 1), (47, 1))), None],
+        )
+
+    def test_ahead(self):
+        self.assertEqual(
+            [ahead(CORNER, BOUNDS, 1)[1:4], slower(CORNER, BOUNDS, 1), enough(CORNER, BOUNDS)],
+            [(((4, 1), (16, 1)), ((8, 1), (0, 1)), ((11, 1), (6, 1))), (((4, 1), (11, 1)),), 2],
+        )
+
+    def test_times(self):
+        course = (((0, 1), (0, 1)), ((2, 1), (4, 1)), ((5, 1), (4, 1)), ((6, 1), (2, 1)))
+        self.assertEqual(
+            [exact_time(course, (0, 1), (5, 1)), exact_time(course, (5, 1), (6, 1)),
+             told_time(course, (5, 1), (6, 1), 3), told_time(course, (1, 1), (2, 1), 2)],
+            [(7, 2), None, (117, 200), (29, 50)],
+        )
+        self.assertEqual(
+            [pace(course, (1, 1), 2), is_by(course, (2, 1), (2, 1)), is_by(course, (2, 1), (199, 100)),
+             sooner(course, course[:3])],
+            [(141, 100), True, False, 1],
         )
 
 

@@ -29,6 +29,16 @@ INTERFACE = {
         "move_at": "program way", "point_at": "program way", "caps": "program limits",
         "pulls": "program limits", "turn_caps": "program limits",
     },
+    "courses": {
+        "greatest": "program limits", "judged": "program limits course", "square_at": "course way",
+        "is_below": "course other_course", "course_fault": "value", "is_course": "value",
+    },
+    "leasts": {"sums": "program limits", "bar": "program limits", "can_keep": "program limits"},
+    "ahead": {"ahead": "program limits known", "slower": "program limits known", "enough": "program limits"},
+    "times": {
+        "exact_time": "course low high", "told_time": "course low high digits", "sooner": "course other_course",
+        "is_by": "course way moment", "pace": "course way digits",
+    },
 }
 
 

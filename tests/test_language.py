@@ -19,9 +19,9 @@ NODES = {
     "Module", "Expr", "Constant", "ImportFrom", "alias", "FunctionDef", "arguments", "arg", "ClassDef", "Return",
     "Assign", "AugAssign", "If", "For", "While", "Break", "Continue", "Pass", "Raise", "Name", "Attribute",
     "Subscript", "Slice", "Starred", "Load", "Store", "Call", "keyword", "Tuple", "List", "Dict", "IfExp", "BoolOp",
-    "And", "Or", "UnaryOp", "USub", "Not", "BinOp", "Add", "Sub", "Mult", "FloorDiv", "Mod", "Compare", "Eq", "NotEq",
-    "Lt", "LtE", "Gt", "GtE", "In", "NotIn", "Is", "IsNot", "ListComp", "DictComp", "GeneratorExp", "comprehension",
-    "JoinedStr", "FormattedValue",
+    "And", "Or", "UnaryOp", "USub", "Not", "BinOp", "Add", "Sub", "Mult", "FloorDiv", "Mod", "LShift", "RShift",
+    "Compare", "Eq", "NotEq", "Lt", "LtE", "Gt", "GtE", "In", "NotIn", "Is", "IsNot", "ListComp", "DictComp",
+    "GeneratorExp", "comprehension", "JoinedStr", "FormattedValue",
 }
 LIBRARY = {"math": {"gcd", "lcm", "isqrt"}, "heapq": {"heappush", "heappop", "heapify"}}
 BUILTINS = set((
@@ -71,6 +71,16 @@ def bound(tree):
             yield node.name
         elif isinstance(node, ast.Name) and isinstance(node.ctx, ast.Store):
             yield node.id
+
+
+def own_methods():
+    """The names of all methods that the package's classes define, but for those of double underscores."""
+    told = set()
+    for tree in trees().values():
+        for node in tree.body:
+            if isinstance(node, ast.ClassDef):
+                told |= {part.name for part in node.body if isinstance(part, ast.FunctionDef)}
+    return told - {"__init__"}
 
 
 class TestFiles(unittest.TestCase):
@@ -182,11 +192,21 @@ class TestCode(unittest.TestCase):
                         self.assertNotIn(node.id, kept, f"L15 {name}")
 
     def test_methods(self):
+        own = own_methods()
+        self.assertEqual(own & METHODS, set(), "L25")
         for name, tree in trees().items():
             for node in ast.walk(tree):
                 if isinstance(node, ast.Call) and isinstance(node.func, ast.Attribute):
-                    self.assertIn(node.func.attr, METHODS, f"L25 {name}")
+                    self.assertIn(node.func.attr, METHODS | own, f"L25 {name}")
                     self.assertEqual(node.keywords, [], f"L25 {name}")
+
+    def test_attributes(self):
+        own = own_methods()
+        for name, tree in trees().items():
+            for node in ast.walk(tree):
+                if isinstance(node, ast.Attribute) and isinstance(node.ctx, ast.Store):
+                    self.assertEqual(node.value.id, "self", f"L18 {name}")
+                    self.assertNotIn(node.attr, own | BARRED, f"L17, L18 {name}")
 
     def test_is(self):
         for name, tree in trees().items():

@@ -4,13 +4,19 @@ import copy
 import itertools
 import unittest
 
-from fastestalong import fractions, moves, programs
+from fastestalong import ahead, courses, fractions, leasts, moves, programs, times
 from fastestalong.errors import (
-    CourseError, InvalidCount, InvalidFraction, InvalidLimits, InvalidPart, InvalidProgram, InvalidText, InvalidWay,
+    CourseError, InvalidCount, InvalidCourse, InvalidFraction, InvalidLimits, InvalidPart, InvalidProgram, InvalidText,
+    InvalidWay,
 )
-from samples import LIMITS, ODD_VALUES, PROGRAM, START, line_program, with_member, with_part, with_step
+from samples import COURSE, LIMITS, ODD_VALUES, PROGRAM, START, line_program, with_member, with_part, with_step
 
 FRACTION = ((3, 4), [(value, InvalidFraction, None) for value in (None, (2, 4), (True, 1), [1, 2], (1, 0))])
+WAYS = [(value, InvalidWay, None) for value in (None, (-1, 1), (8, 1), (10, 2))]
+COURSES = [
+    (None, InvalidCourse, 0), ((), InvalidCourse, 0), (list(COURSE), InvalidCourse, 0), (COURSE[1:], InvalidCourse, 0),
+    (with_member(COURSE, 2, ((4, 1), (-1, 1))), InvalidCourse, 2), (COURSE + COURSE[-1:], InvalidCourse, len(COURSE)),
+]
 
 # Of each parameter a right argument, and wrong ones with their errors and what these keep.
 PARAMETERS = {
@@ -40,9 +46,13 @@ PARAMETERS = {
     "shift": (START, [(None, InvalidPart, None), (START[:1], InvalidPart, None), (list(START), InvalidPart, None)]),
     "factor": ((2, 1), [(None, InvalidFraction, None), ((0, 1), InvalidFraction, None), (2, InvalidFraction, None)]),
     "order": ((1, 0), [(None, InvalidPart, None), ((1, 1), InvalidPart, None), ([1, 0], InvalidPart, None)]),
-    "way": ((5, 1), [
-        (None, InvalidWay, None), ((-1, 1), InvalidWay, None), ((8, 1), InvalidWay, None), ((10, 2), InvalidWay, None),
-    ]),
+    "way": ((5, 1), WAYS),
+    "low": ((1, 1), WAYS),
+    "high": ((5, 1), WAYS),
+    "course": (COURSE, COURSES),
+    "other_course": (COURSE, COURSES),
+    "known": (2, [(value, InvalidCount, None) for value in (0, 31, None, True, (3, 1), "3")]),
+    "moment": ((3, 1), FRACTION[1]),
 }
 
 CALLS = [
@@ -56,7 +66,13 @@ CALLS = [
     (programs.led_limits, "program limits order"), (moves.lengths, "program"), (moves.directions, "program"),
     (moves.ways, "program"), (moves.whole, "program"), (moves.move_at, "program way"),
     (moves.point_at, "program way"), (moves.caps, "program limits"), (moves.pulls, "program limits"),
-    (moves.turn_caps, "program limits"),
+    (moves.turn_caps, "program limits"), (courses.greatest, "program limits"),
+    (courses.judged, "program limits course"), (courses.square_at, "course way"),
+    (courses.is_below, "course other_course"), (leasts.sums, "program limits"), (leasts.bar, "program limits"),
+    (leasts.can_keep, "program limits"), (ahead.ahead, "program limits known"),
+    (ahead.slower, "program limits known"), (ahead.enough, "program limits"), (times.exact_time, "course low high"),
+    (times.told_time, "course low high digits"), (times.sooner, "course other_course"),
+    (times.is_by, "course way moment"), (times.pace, "course way digits"),
 ]
 
 
