@@ -61,12 +61,10 @@ def sides(line, other):
         member = line[index]
         other_member = other[other_index]
         order = side(member[0], other_member[0])
-        if order < 0:
+        if order <= 0:
             told.append((member[0], side_of_line(member, other[other_index - 1], other_member)))
-        elif order > 0:
-            told.append((other_member[0], -side_of_line(other_member, line[index - 1], member)))
         else:
-            told.append((member[0], side(member[1], other_member[1])))
+            told.append((other_member[0], -side_of_line(other_member, line[index - 1], member)))
         if order <= 0:
             index += 1
         if order >= 0:

@@ -18,7 +18,7 @@ PRIMES = (3, 5, 7, 11, 13, 17, 19, 23, 29, 31, 37, 41, 43, 47, 53, 59, 61, 67, 7
 
 
 def mark(square, prime):
-    """0 if the prime divides top or bottom, else 1 or -1 as their product is a square or not, but for multiples."""
+    """0 if the prime divides top or bottom, else 1 or -1 as their product is a square modulo the prime or not."""
     left = (square[0] % prime) * (square[1] % prime) % prime
     if left == 0:
         return 0
@@ -38,7 +38,7 @@ def root_ratio(one, other):
 
 
 class Kin:
-    """The sum of roots that are all a fraction's multiples of the root of one square."""
+    """A sum of roots that are all a fraction's multiples of the root of one square: factor times that root."""
 
     def __init__(self, square, marks):
         self.square = square
@@ -69,14 +69,16 @@ def place(families, factor, square):
 
 
 def gathered(terms):
-    """The sum of terms as (fraction, terms): none of the terms left is 0, and their roots are independent."""
+    """The sum of terms as (fraction, terms): none of the terms left is 0, and their roots are independent.
+
+    The root of 0 is a multiple of that of 1, too: 0 times it.
+    """
     factors = {}
     for factor, square in terms:
         factors[square] = added(factors.get(square, NOUGHT), factor)
     families = [Kin(ONE, [1] * len(PRIMES))]
     for square, factor in factors.items():
-        if square != NOUGHT:
-            place(families, factor, square)
+        place(families, factor, square)
     left = [(kin.factor, kin.square) for kin in families[1:] if kin.factor != NOUGHT]
     return (families[0].factor, left)
 

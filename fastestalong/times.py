@@ -78,6 +78,4 @@ def is_by(course, way, moment):
 
 def pace(course, way, digits):
     """The greatest multiple of 1 by 10 to the power digits that is not above the speed at a way."""
-    square = square_at(course, way)
-    check_count(digits, 0, MOST_DIGITS)
-    return root(square, digits)
+    return root(square_at(course, way), digits)

@@ -3,6 +3,10 @@
 import unittest
 
 from fastestalong import errors
+from fastestalong.ahead import ahead
+from fastestalong.courses import greatest, is_below, judged, square_at
+from fastestalong.times import exact_time, is_by, told_time
+from samples import COURSE, LIMITS, PROGRAM
 
 WITH_TEXT = ["InvalidFraction", "InvalidWay", "InvalidIndex", "InvalidCount", "InvalidPart", "Refused"]
 WITH_FIELD = [
@@ -55,6 +59,27 @@ class TestErrors(unittest.TestCase):
                 made()
             with self.assertRaises(TypeError):
                 made(1, 2)
+
+    def test_those_of_calls_on_courses(self):
+        still = (((0, 1), (0, 1)), ((7, 1), (0, 1)))
+        for call, name, kept in (
+            (lambda: greatest(PROGRAM[:1], LIMITS), "InvalidProgram", ()),
+            (lambda: greatest(PROGRAM, LIMITS[:1]), "InvalidLimits", 0),
+            (lambda: judged(PROGRAM, LIMITS, COURSE[:2]), "InvalidCourse", 1),
+            (lambda: square_at(COURSE[::-1], (0, 1)), "InvalidCourse", 0),
+            (lambda: square_at(COURSE, (8, 1)), "InvalidWay", None),
+            (lambda: is_below(COURSE, COURSE[:2]), "Refused", None),
+            (lambda: ahead(PROGRAM, LIMITS, 0), "InvalidCount", None),
+            (lambda: exact_time(COURSE, (2, 1), (1, 1)), "InvalidPart", None),
+            (lambda: told_time(still, (1, 1), (2, 1), 0), "Refused", None),
+            (lambda: is_by(COURSE, (2, 1), 1), "InvalidFraction", None),
+        ):
+            for caught in (getattr(errors, name), errors.CourseError, ValueError):
+                with self.assertRaises(caught) as told:
+                    call()
+                self.assertIs(type(told.exception), getattr(errors, name))
+            if kept is not None:
+                self.assertEqual(getattr(told.exception, dict(WITH_FIELD)[name]), kept)
 
 
 if __name__ == "__main__":

@@ -1,10 +1,11 @@
 """Point [12], fact T: times, told exactly."""
 
 import copy
+import itertools
 import random
 import unittest
 from fractions import Fraction
-from math import floor, isqrt
+from math import floor, isqrt, prod
 
 from fastestalong.courses import greatest
 from fastestalong.errors import InvalidCount, InvalidCourse, InvalidFraction, InvalidPart, InvalidWay, Refused
@@ -17,10 +18,11 @@ from samples import (
 NINETY = Fraction(1, 10 ** 90)
 CLOSE = Fraction(1, 10 ** 150)
 
-# None is a square, nor a product of two of them; some have no prime divisor below a hundred.
+# All odd primes below a hundred divide the first; modulo each of them the second is 1, a square.
+MANY_PRIMES = prod(number for number in range(3, 100) if all(number % divisor for divisor in range(2, number)))
 KERNELS = (
     1, 2, 3, 6, 35, 10007, 2 * 10007, 10 ** 9 + 7, (10 ** 9 + 7) * (10 ** 9 + 9), 2 ** 61 - 1,
-    (2 ** 61 - 1) * (2 ** 89 - 1), 3 * (2 ** 127 - 1),
+    (2 ** 61 - 1) * (2 ** 89 - 1), 3 * (2 ** 127 - 1), MANY_PRIMES, MANY_PRIMES + 1, 2 * MANY_PRIMES,
 )
 
 
@@ -83,6 +85,17 @@ class TestExactTime(unittest.TestCase):
             seen.add((is_whole, len(told)))
             self.check(course, (0, 1), whole_of(course), told.get(1, Fraction(0)) if is_whole else None)
         self.assertTrue({(True, 1), (False, 1), (False, 2), (False, 3)} <= seen)
+
+    def test_the_kernels_are_of_unlike_kinds(self):
+        for one, other in itertools.combinations(KERNELS, 2):
+            self.assertNotEqual(isqrt(one * other) ** 2, one * other)
+
+    def test_two_kinds_side_by_side(self):
+        for one, other in itertools.permutations(KERNELS, 2):
+            course = course_of((0, one), (1, one), (2, other), (3, other))
+            self.check(course, (0, 1), (3, 1), None)
+            self.check(course, (0, 1), (1, 1), 1 if one == 1 else None)
+            self.check(course, (2, 1), (3, 1), 1 if other == 1 else None)
 
     def test_roots_that_cancel_one_another(self):
         # From 1 to r and on to 4: the root of r falls out if the ways are as 1 less r to r less 4.
