@@ -6,7 +6,7 @@ from fastestalong.exact import (
 )
 from fastestalong.fractions import is_fraction
 from fastestalong.lines import bends, refined, sides, square_on
-from fastestalong.moves import caps, check_way, pulls, swings, turn_caps, ways
+from fastestalong.moves import caps, check_way, lengths, pulls, swings, turn_caps, ways
 from fastestalong.programs import is_from_nought, is_tuple_of
 
 
@@ -42,13 +42,17 @@ def check_course(course):
         raise InvalidCourse(index)
 
 
-def joint_caps(program, limits):
-    """The joint caps of the start, of each joint and of the end."""
-    along = caps(program, limits)
+def bounds_at_joints(along, turns):
+    """The joint caps of the start, of each joint and of the end, told the caps of the moves and the turn caps."""
     told = [NOUGHT]
-    for ahead, behind, turn in zip(along, along[1:], turn_caps(program, limits)[1:]):
+    for ahead, behind, turn in zip(along, along[1:], turns[1:]):
         told.append(smallest([ahead, behind] if turn is None else [ahead, behind, turn]))
     return told + [NOUGHT]
+
+
+def joint_caps(program, limits):
+    """The joint caps of the start, of each joint and of the end."""
+    return bounds_at_joints(caps(program, limits), turn_caps(program, limits))
 
 
 def led_on(bounds, changes):
@@ -65,25 +69,30 @@ def joint_squares(bounds, changes):
     return led_on(onwards[::-1], changes[::-1])[::-1]
 
 
-def move_pieces(begin, end, cap, slope):
-    """The pieces (way, square, slope) of the greatest line from one member to another: below the cap, no steeper."""
-    rising = begin + (slope,)
-    top = added(begin[0], divided(subtracted(cap, begin[1]), slope))
-    bottom = subtracted(end[0], divided(subtracted(cap, end[1]), slope))
+def move_pieces(begin, length, end_square, cap, slope):
+    """The pieces (way, square, slope) of the greatest line along a move from a member on: below the cap, no steeper."""
+    way, square = begin
+    rising = (way, square, slope)
+    # Counted from the move's begin on, where numbers are shorter than the ways.
+    top = divided(subtracted(cap, square), slope)
+    bottom = subtracted(length, divided(subtracted(cap, end_square), slope))
     if not is_less(bottom, top):
-        return [rising, (top, cap, NOUGHT), (bottom, cap, opposite(slope))]
+        return [rising, (added(way, top), cap, NOUGHT), (added(way, bottom), cap, opposite(slope))]
     # The two lines meet in the middle between the ways at which each of them would come to the cap.
     middle = divided(added(top, bottom), (2, 1))
-    return [rising, (middle, subtracted(cap, multiplied(slope, subtracted(top, middle))), opposite(slope))]
+    return [rising, (added(way, middle), added(square, multiplied(slope, middle)), opposite(slope))]
 
 
 def greatest_within(program, limits, bounds):
     """The greatest course that keeps the program leasts aside, within bounds at the start, the joints and the end."""
-    members = list(zip(ways(program), joint_squares(bounds, swings(program, limits))))
+    squares = joint_squares(bounds, swings(program, limits))
+    members = list(zip(ways(program), squares))
     slopes = [twice(pull) for pull in pulls(program, limits)]
     pieces = []
-    for begin, end, cap, slope in zip(members, members[1:], caps(program, limits), slopes):
-        pieces.extend(move_pieces(begin, end, cap, slope))
+    for begin, length, square, cap, slope in zip(
+        members, lengths(program), squares[1:], caps(program, limits), slopes,
+    ):
+        pieces.extend(move_pieces(begin, length, square, cap, slope))
     return bends(pieces, members[-1])
 
 

@@ -49,6 +49,43 @@ def side_of_line(member, begin, end):
     return side(across, multiplied(subtracted(end[1], begin[1]), subtracted(member[0], begin[0])))
 
 
+def straightened(line):
+    """The line as a list, without members at which it does not bend."""
+    told = []
+    for member in line:
+        if len(told) > 1 and side_of_line(told[-1], told[-2], member) == 0:
+            told.pop()
+        told.append(member)
+    return told
+
+
+def crossing(begin, end, low, high):
+    """The member at which the straight lines from begin to end and from low to high cross.
+
+    They do cross, at a way from low to high.
+    """
+    slope = slope_of(begin, end)
+    other_slope = slope_of(low, high)
+    apart = subtracted(between(begin, end, low[0])[1], low[1])
+    along = divided(apart, subtracted(other_slope, slope))
+    return (added(low[0], along), added(low[1], multiplied(other_slope, along)))
+
+
+def led_to(begin, end, line):
+    """The members behind begin of the straight line to end up to where it comes to the other line, then of that one.
+
+    Both have the same first and last ways, and begin is not on the other line.
+    """
+    order = side_of_line(line[0], begin, end)
+    for index in range(1, len(line)):
+        other_order = side_of_line(line[index], begin, end)
+        if other_order == 0:
+            return line[index:]
+        if other_order != order:
+            return [crossing(begin, end, line[index - 1], line[index])] + line[index:]
+    return [end]
+
+
 def sides(line, other):
     """Of each way of two lines (way, -1, 0 or 1), as the first is below, at or above the other one there.
 

@@ -80,14 +80,22 @@ def path_bounds(parts, bounds):
     return [divided(bound, absolute(part)) for part, bound in zip(parts, bounds) if part != NOUGHT]
 
 
-def caps(program, limits):
-    """The greatest square that each move lets."""
+def axis_tops(program, limits):
+    """The greatest speed that the axes let in each move, whatever its feed."""
     check_limits(program, limits)
     speeds = [axis[0] for axis in limits]
-    told = []
-    for step, direction in zip(program[1], directions(program)):
-        told.append(squared(smallest([step[1]] + path_bounds(direction, speeds))))
-    return tuple(told)
+    return [smallest(path_bounds(direction, speeds)) for direction in directions(program)]
+
+
+def capped(feeds, tops):
+    """The cap of each move, told its feed and the greatest speed that the axes let."""
+    return tuple(squared(smallest([feed, top])) for feed, top in zip(feeds, tops))
+
+
+def caps(program, limits):
+    """The greatest square that each move lets."""
+    tops = axis_tops(program, limits)
+    return capped([step[1] for step in program[1]], tops)
 
 
 def pulls(program, limits):

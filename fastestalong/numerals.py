@@ -25,16 +25,28 @@ def decimal_places(bottom):
     return max(twos, fives)
 
 
+def whole_text(number):
+    """The text of an integer from 0 on."""
+    # Part by part, as Python's own text refuses some thousands of digits.
+    parts = []
+    while number >= 10 ** 64:
+        parts.append(str(number % 10 ** 64).zfill(64))
+        number = number // 10 ** 64
+    parts.append(str(number))
+    return "".join(parts[::-1])
+
+
 def number_text(number):
     """The text of a fraction."""
     top, bottom = number
+    sign = "-" if top < 0 else ""
     places = decimal_places(bottom)
     if places is None:
-        return f"{top}/{bottom}"
+        return f"{sign}{whole_text(abs(top))}/{whole_text(bottom)}"
+    digits = whole_text(abs(top) * power(10, places) // bottom)
     if places == 0:
-        return str(top)
-    sign = "-" if top < 0 else ""
-    digits = str(abs(top) * power(10, places) // bottom).zfill(places + 1)
+        return sign + digits
+    digits = digits.zfill(places + 1)
     return f"{sign}{digits[:-places]}.{digits[-places:]}"
 
 

@@ -38,22 +38,22 @@ def root_ratio(one, other):
 
 
 class Kin:
-    """A sum of roots that are all a fraction's multiples of the root of one square: factor times that root."""
+    """A sum of roots that are all a fraction's multiples of the root of one number: share times that root."""
 
-    def __init__(self, square, marks):
-        self.square = square
+    def __init__(self, unit, marks):
+        self.unit = unit
         self.marks = marks
-        self.factor = NOUGHT
+        self.share = NOUGHT
 
     def took(self, factor, square, marks):
         """Adds a term to the sum if its root is such a multiple, and tells whether it is."""
         # Marks first: without them long numbers would be divided for each pair of terms.
         if not may_be_kin(self.marks, marks):
             return False
-        ratio = root_ratio(square, self.square)
+        ratio = root_ratio(square, self.unit)
         if ratio is None:
             return False
-        self.factor = added(self.factor, multiplied(factor, ratio))
+        self.share = added(self.share, multiplied(factor, ratio))
         return True
 
 
@@ -68,19 +68,29 @@ def place(families, factor, square):
     families.append(kin)
 
 
-def gathered(terms):
-    """The sum of terms as (fraction, terms): none of the terms left is 0, and their roots are independent.
+def first_families():
+    """Families of roots, without a term: that of 1 alone.
 
     The root of 0 is a multiple of that of 1, too: 0 times it.
     """
+    return [Kin(ONE, [1] * len(PRIMES))]
+
+
+def summed(families):
+    """The sum of all terms of families as (fraction, terms): none of these is 0, and their roots are independent."""
+    left = [(kin.share, kin.unit) for kin in families[1:] if kin.share != NOUGHT]
+    return (families[0].share, left)
+
+
+def gathered(terms):
+    """The sum of terms, as summed tells it."""
     factors = {}
     for factor, square in terms:
         factors[square] = added(factors.get(square, NOUGHT), factor)
-    families = [Kin(ONE, [1] * len(PRIMES))]
+    families = first_families()
     for square, factor in factors.items():
         place(families, factor, square)
-    left = [(kin.factor, kin.square) for kin in families[1:] if kin.factor != NOUGHT]
-    return (families[0].factor, left)
+    return summed(families)
 
 
 def floor_of(factor, square, bits):

@@ -3,7 +3,7 @@
 from decimal import Decimal, localcontext
 from fractions import Fraction
 
-from samples import number
+from samples import number, pair
 
 
 class Road:
@@ -98,7 +98,7 @@ def square_on(rows, way):
     for (low, square), (high, other) in zip(rows, rows[1:]):
         if low <= way <= high:
             return square + (other - square) * (way - low) / (high - low)
-    assert len(rows) == 1 and way == 0
+    assert len(rows) == 1 and way == rows[0][0]
     return rows[0][1]
 
 
@@ -143,3 +143,50 @@ def nearly_time(course, low, high, places=200):
             if end > way:
                 total += 2 * decimal(end - way) / (decimal(square).sqrt() + decimal(other).sqrt())
         return Fraction(total)
+
+
+def quickened(program, factor):
+    """The program with each feed a factor times as great, and without leasts."""
+    steps = tuple((step[0], pair(number(step[1]) * factor), (0, 1), step[3]) for step in program[1])
+    return (program[0], steps)
+
+
+class Walk:
+    """A run as point [14] tells it: the way, the square, whether it is held, and the factor, of each order."""
+
+    def __init__(self, program, limits):
+        self.program, self.limits, self.roads = program, limits, {}
+        self.orders = [(Fraction(0), Fraction(0), False, Fraction(1))]
+
+    def road(self, factor):
+        if factor not in self.roads:
+            self.roads[factor] = Road(quickened(self.program, factor), self.limits)
+        return self.roads[factor]
+
+    def rest_at(self, order, way):
+        """The square at a way if nothing is told behind an order."""
+        at, square, held, factor = order
+        road = self.road(factor)
+        swing = road.swing(at, way)
+        if held:
+            return max(square - swing, Fraction(0))
+        return max(min(road.greatest_at(way), square + swing), square - swing)
+
+    def square(self, way):
+        return self.rest_at([order for order in self.orders if order[0] <= way][-1], way)
+
+    def stand(self):
+        """The way at which it comes to stand by the last order."""
+        at, square, held, _ = self.orders[-1]
+        road = self.road(Fraction(1))
+        if not held:
+            return road.ways[-1]
+        level = road.level(at) + square
+        move = max(index for index in range(len(road.caps)) if road.levels[index] <= level)
+        return road.ways[move] + (level - road.levels[move]) / road.slopes[move]
+
+    def tell(self, way, held=None, factor=None):
+        """Another order at a way."""
+        _, _, was_held, last = self.orders[-1]
+        held = was_held if held is None else held
+        self.orders.append((way, self.square(way), held, last if factor is None else factor))

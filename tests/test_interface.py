@@ -39,7 +39,33 @@ INTERFACE = {
         "exact_time": "course low high", "told_time": "course low high digits", "sooner": "course other_course",
         "is_by": "course way moment", "pace": "course way digits",
     },
+    "pulses": {
+        "pulses": "program sizes", "counts_at": "program sizes way", "gaps": "program sizes",
+        "pulses_fault": "program sizes value",
+    },
+    "runs": {"Run": "program limits", "run_again": "program limits journal way"},
+    "corners": {
+        "corners": "program", "off": "program corner amount", "cut": "program corner amount",
+        "room": "program corner tolerance", "rounded": "program tolerance",
+    },
+    "alike": {"plain": "program", "alike": "program other_program"},
+    "binding": {"binding": "program limits", "gains": "program limits axis"},
+    "texts": {
+        "program_told": "text", "program_text": "program", "shortest": "program", "limits_told": "text",
+        "limits_text": "limits", "course_told": "text", "course_text": "course",
+    },
+    "drawn": {
+        "profile": "course wide tall", "ribbon": "program limits course wide", "clock": "course wide",
+        "trail": "program wide tall",
+    },
+    "console": {"Console": ""},
 }
+
+METHODS = {
+    ("runs", "Run"): {"go": "way", "feed": "factor", "hold": "", "go_on": "", "done": "", "rest": "", "stand": ""},
+    ("console", "Console"): {"execute": "command"},
+}
+PROPERTIES = ("program", "limits", "way", "square", "factor", "held", "journal")
 
 
 class TestInterface(unittest.TestCase):
@@ -56,6 +82,22 @@ class TestInterface(unittest.TestCase):
                 for parameter in parameters:
                     self.assertEqual(parameter.kind, inspect.Parameter.POSITIONAL_OR_KEYWORD, name)
                     self.assertIs(parameter.default, inspect.Parameter.empty, name)
+
+    def test_methods(self):
+        for (file, name), methods in METHODS.items():
+            told = getattr(importlib.import_module(f"fastestalong.{file}"), name)
+            for method, arguments in methods.items():
+                parameters = inspect.signature(vars(told)[method]).parameters.values()
+                self.assertEqual([parameter.name for parameter in parameters], ["self"] + arguments.split(), method)
+                for parameter in parameters:
+                    self.assertEqual(parameter.kind, inspect.Parameter.POSITIONAL_OR_KEYWORD, method)
+                    self.assertIs(parameter.default, inspect.Parameter.empty, method)
+
+    def test_properties(self):
+        told = vars(importlib.import_module("fastestalong.runs").Run)
+        for name in PROPERTIES:
+            self.assertIsInstance(told[name], property)
+            self.assertIsNone(told[name].fset)
 
     def test_each_is_defined_in_its_file(self):
         for file, names in INTERFACE.items():

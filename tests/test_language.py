@@ -19,9 +19,9 @@ NODES = {
     "Module", "Expr", "Constant", "ImportFrom", "alias", "FunctionDef", "arguments", "arg", "ClassDef", "Return",
     "Assign", "AugAssign", "If", "For", "While", "Break", "Continue", "Pass", "Raise", "Name", "Attribute",
     "Subscript", "Slice", "Starred", "Load", "Store", "Call", "keyword", "Tuple", "List", "Dict", "IfExp", "BoolOp",
-    "And", "Or", "UnaryOp", "USub", "Not", "BinOp", "Add", "Sub", "Mult", "FloorDiv", "Mod", "LShift", "RShift",
+    "And", "Or", "UnaryOp", "USub", "Not", "BinOp", "Add", "Sub", "Mult", "FloorDiv", "Mod", "Pow", "LShift", "RShift",
     "Compare", "Eq", "NotEq", "Lt", "LtE", "Gt", "GtE", "In", "NotIn", "Is", "IsNot", "ListComp", "DictComp",
-    "GeneratorExp", "comprehension", "JoinedStr", "FormattedValue",
+    "GeneratorExp", "comprehension", "JoinedStr", "FormattedValue", "Try", "ExceptHandler",
 }
 LIBRARY = {"math": {"gcd", "lcm", "isqrt"}, "heapq": {"heappush", "heappop", "heapify"}}
 BUILTINS = set((
@@ -33,6 +33,7 @@ METHODS = set((
     "items join keys ljust lower lstrip partition pop remove replace reverse rfind rjust rpartition rsplit rstrip "
     "setdefault split splitlines startswith strip update upper values zfill bit_length"
 ).split())
+ITERATING = ("list", "tuple", "dict", "sorted", "sum", "any", "all", "enumerate", "zip", "min", "max")
 BARRED = set((
     "register mro elements open input law version_info with_traceback add_note typing enum Enum namedtuple dataclass "
     "compile dir eval exec exit gc getattr globals hasattr help id importlib locals os quit setattr super vars sys"
@@ -150,7 +151,8 @@ class TestCode(unittest.TestCase):
                 if isinstance(node, ast.Constant):
                     self.assertIn(node.value.__class__, (int, str, bool, None.__class__), f"L7 {name}")
                 if isinstance(node, ast.FunctionDef):
-                    self.assertEqual(node.decorator_list, [], f"L4 {name}")
+                    decorators = [decorator.id for decorator in node.decorator_list]
+                    self.assertIn(decorators, ([], ["property"]), f"L4 {name}")
                     self.assertIsNone(node.returns, f"L21 {name}")
                 if isinstance(node, ast.arg):
                     self.assertIsNone(node.annotation, f"L21 {name}")
@@ -166,19 +168,35 @@ class TestCode(unittest.TestCase):
                     self.assertIsInstance(node.value, ast.Constant, f"L3 {name}")
                 if isinstance(node, ast.Assign):
                     self.assertIsInstance(node.targets[0], ast.Name, f"L3 {name}")
-                    ast.literal_eval(node.value)
+                    self.check_plain(node.value, tree)
+
+    def check_plain(self, value, tree):
+        """A plain value, or a dict of the file's own functions above it."""
+        if not isinstance(value, ast.Dict) or not all(isinstance(part, ast.Name) for part in value.values):
+            ast.literal_eval(value)
+            return
+        above = [told.name for told in tree.body if isinstance(told, ast.FunctionDef) and told.lineno < value.lineno]
+        for key, part in zip(value.keys, value.values):
+            ast.literal_eval(key)
+            self.assertIn(part.id, above, "L3")
+
+    def test_exponents(self):
+        for name, tree in trees().items():
+            for node in ast.walk(tree):
+                if isinstance(node, ast.BinOp) and isinstance(node.op, ast.Pow):
+                    self.assertIn(ast.literal_eval(node.right), range(65), f"L27 {name}")
 
     def test_names(self):
         meant = set(dir(builtins)) | BARRED
         for name, tree in trees().items():
             for word in bound(tree):
                 self.assertNotIn(word, meant - {"__init__"}, f"L15, L17 {name}")
-                self.assertRegex(word, r"\A(_|__init__|[a-zA-Z][a-zA-Z0-9_]*)\Z", f"L12 {name}")
+                self.assertRegex(word, r"\A(_|__init__|_?[a-zA-Z][a-zA-Z0-9_]*)\Z", f"L12 {name}")
             for node in ast.walk(tree):
                 if isinstance(node, ast.Name) and isinstance(node.ctx, ast.Load):
                     self.assertNotEqual(node.id, "_", f"L12 {name}")
                     if node.id in dir(builtins):
-                        self.assertIn(node.id, BUILTINS, f"L8 {name}")
+                        self.assertIn(node.id, BUILTINS | {"property"}, f"L8 {name}")
 
     def test_no_variable_has_the_name_of_an_import_or_class(self):
         for name, tree in trees().items():
@@ -207,6 +225,41 @@ class TestCode(unittest.TestCase):
                 if isinstance(node, ast.Attribute) and isinstance(node.ctx, ast.Store):
                     self.assertEqual(node.value.id, "self", f"L18 {name}")
                     self.assertNotIn(node.attr, own | BARRED, f"L17, L18 {name}")
+
+    def test_properties(self):
+        stored = set()
+        for tree in trees().values():
+            stored |= {node.attr for node in ast.walk(tree)
+                       if isinstance(node, ast.Attribute) and not isinstance(node.ctx, ast.Load)}
+        for name, tree in trees().items():
+            for told in functions(tree):
+                if told.decorator_list:
+                    self.assertNotIn(told.name, stored | METHODS, f"L5 {name}")
+                    self.assertEqual([arg.arg for arg in told.args.args], ["self"], f"L5 {name}")
+                    self.assertEqual([node.__class__.__name__ for node in told.body], ["Expr", "Return"], f"L5 {name}")
+
+    def test_handlers(self):
+        errors = {node.name for node in trees()["errors.py"].body if isinstance(node, ast.ClassDef)}
+        for name, tree in trees().items():
+            for node in ast.walk(tree):
+                if isinstance(node, ast.Try):
+                    self.assertEqual(node.finalbody + node.orelse, [], f"L6 {name}")
+                if isinstance(node, ast.ExceptHandler):
+                    self.assertIn(node.type.id, errors, f"L19 {name}")
+
+    def test_ranges_and_views_are_iterated_at_once(self):
+        for name, tree in trees().items():
+            for node in ast.walk(tree):
+                for part in ast.iter_child_nodes(node):
+                    if not isinstance(part, ast.Call):
+                        continue
+                    called = getattr(part.func, "id", getattr(part.func, "attr", None))
+                    if called not in ("range", "zip", "enumerate", "reversed", "items", "keys", "values"):
+                        continue
+                    if isinstance(node, ast.Call):
+                        self.assertIn(node.func.id, ITERATING, f"L23 {name} {node.lineno}")
+                    else:
+                        self.assertIsInstance(node, (ast.For, ast.comprehension), f"L23 {name} {part.lineno}")
 
     def test_is(self):
         for name, tree in trees().items():

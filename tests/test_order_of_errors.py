@@ -4,10 +4,12 @@ import copy
 import itertools
 import unittest
 
-from fastestalong import ahead, courses, fractions, leasts, moves, programs, times
+from fastestalong import (
+    ahead, alike, binding, corners, courses, drawn, fractions, leasts, moves, programs, pulses, runs, texts, times,
+)
 from fastestalong.errors import (
-    CourseError, InvalidCount, InvalidCourse, InvalidFraction, InvalidLimits, InvalidPart, InvalidProgram, InvalidText,
-    InvalidWay,
+    CourseError, InvalidCount, InvalidCourse, InvalidFraction, InvalidIndex, InvalidLimits, InvalidPart, InvalidProgram,
+    InvalidText, InvalidWay, Refused,
 )
 from samples import COURSE, LIMITS, ODD_VALUES, PROGRAM, START, line_program, with_member, with_part, with_step
 
@@ -53,7 +55,34 @@ PARAMETERS = {
     "other_course": (COURSE, COURSES),
     "known": (2, [(value, InvalidCount, None) for value in (0, 31, None, True, (3, 1), "3")]),
     "moment": ((3, 1), FRACTION[1]),
+    "sizes": (((1, 1), (1, 2)), [
+        (value, InvalidPart, None)
+        for value in (None, ((1, 1),), [(1, 1), (1, 1)], ((1, 1), (0, 1)), ((2, 4), (1, 1)), ((1, 1), 1))
+    ]),
+    "journal": ((("hold", (1, 1)), ("on", (1, 1))), [
+        (value, InvalidPart, None)
+        for value in (None, [], (("on", (0, 1)),), (("hold", (7, 1)),), (("feed", (1, 1), (3, 1)),), (("hold", None),))
+    ]),
+    "corner": (0, [(value, InvalidPart, None) for value in (None, False, 1, -1, (0, 1), "0")]),
+    "amount": ((1, 1), FRACTION[1] + [((0, 1), Refused, None), ((3, 1), Refused, None), ((-1, 2), Refused, None)]),
+    "tolerance": ((1, 4), FRACTION[1] + [((0, 1), InvalidFraction, None), ((-1, 4), InvalidFraction, None)]),
+    "other_program": (line_program(3), [
+        (None, InvalidProgram, ()), ((START, ()), InvalidProgram, (1,)),
+        (with_part(PROGRAM, 1, 1, (0, 1)), InvalidProgram, (1, 1, 1)),
+    ]),
+    "axis": (1, [(value, InvalidIndex, None) for value in (None, True, 2, -1, (1, 1), "x")]),
+    "wide": (12, [(value, InvalidCount, None) for value in (0, 121, None, True, (3, 1), "3", -1)]),
+    "tall": (3, [(value, InvalidCount, None) for value in (0, 61, None, True, (3, 1), "3", -1)]),
 }
+
+
+def run_way(program, limits):
+    return runs.Run(program=program, limits=limits).rest()
+
+
+def run_again_way(program, limits, journal, way):
+    return runs.run_again(program=program, limits=limits, journal=journal, way=way).rest()
+
 
 CALLS = [
     (fractions.fraction, "top bottom"), (fractions.plus, "one other"), (fractions.minus, "one other"),
@@ -72,7 +101,16 @@ CALLS = [
     (leasts.can_keep, "program limits"), (ahead.ahead, "program limits known"),
     (ahead.slower, "program limits known"), (ahead.enough, "program limits"), (times.exact_time, "course low high"),
     (times.told_time, "course low high digits"), (times.sooner, "course other_course"),
-    (times.is_by, "course way moment"), (times.pace, "course way digits"),
+    (times.is_by, "course way moment"), (times.pace, "course way digits"), (pulses.pulses, "program sizes"),
+    (pulses.counts_at, "program sizes way"), (pulses.gaps, "program sizes"),
+    (pulses.pulses_fault, "program sizes value"), (run_way, "program limits"),
+    (run_again_way, "program limits journal way"), (corners.corners, "program"),
+    (corners.off, "program corner amount"), (corners.cut, "program corner amount"),
+    (corners.room, "program corner tolerance"), (corners.rounded, "program tolerance"), (alike.plain, "program"),
+    (alike.alike, "program other_program"), (binding.binding, "program limits"),
+    (binding.gains, "program limits axis"), (texts.program_text, "program"), (texts.shortest, "program"),
+    (drawn.profile, "course wide tall"), (drawn.ribbon, "program limits course wide"), (drawn.clock, "course wide"),
+    (drawn.trail, "program wide tall"),
 ]
 
 
