@@ -3,7 +3,7 @@
 from fastestalong.commands import read_command
 from fastestalong.courses import greatest
 from fastestalong.drawn import profile
-from fastestalong.errors import InvalidLimits, Refused
+from fastestalong.errors import Refused
 from fastestalong.exact import NOUGHT
 from fastestalong.leasts import bar
 from fastestalong.numerals import number_text
@@ -134,9 +134,8 @@ class Console:
 
     def _take_limits(self, limits):
         """A new run of the program under limits."""
+        # First what are no limits at all; those of another number of axes the run refuses.
         check_axes(limits, len(limits))
-        if len(limits) != len(self._kept[0]):
-            raise InvalidLimits(0)
         self._run = Run(self._kept, limits)
         return ""
 

@@ -118,7 +118,7 @@ def several(seed, many):
 class TestBinding(unittest.TestCase):
     def test_of_any_kind(self):
         words, far = set(), 0
-        for program, limits in several(1, 40):
+        for program, limits in several(1, 30):
             before = copy.deepcopy((program, limits))
             told = Told(program, limits)
             rows = tuple(told.row(*piece) for piece in told.pieces)
@@ -196,7 +196,7 @@ class TestGains(unittest.TestCase):
 
     def test_of_any_kind(self):
         nones = 0
-        for program, limits in several(11, 40):
+        for program, limits in several(11, 25):
             told = Told(program, limits)
             for axis in range(len(limits)):
                 self.assertEqual(gains(program, limits, axis), told.gains(axis))

@@ -112,6 +112,31 @@ class TestRun(unittest.TestCase):
             program = some_program(chance, chance.randint(1, 2), chance.randint(1, 3))
             self.check_run(chance, program, some_limits(chance, len(program[0])), 25)
 
+    def test_with_orders_that_reach_over_joints(self):
+        chance = random.Random(3)
+        over = 0
+        for _ in range(12):
+            program = some_program(chance, chance.randint(2, 3), 8)
+            steps = tuple((step[0], (40, 1), (0, 1), False) for step in program[1])
+            limits = tuple(((60, 1), axis[1], (50, 1)) for axis in some_limits(chance, len(program[0])))
+            self.check_run(chance, (program[0], steps), limits, 6)
+            run = Run((program[0], steps), limits)
+            walk, way = Walk((program[0], steps), limits), number(whole(program)) / 2
+            run.go(pair(way))
+            run.hold()
+            walk.tell(way, held=True)
+            self.check(run, walk, way)
+            over += len([joint for joint in ways(program) if way < number(joint) < walk.stand()])
+        self.assertGreater(over, 12)
+
+    def test_a_stand_close_to_a_joint(self):
+        program = (pairs((0,)), ((pairs((10,)), (2, 1), (0, 1), False),))
+        for way, stand in (((15, 2), (19, 2)), ((8, 1), (10, 1)), ((79, 10), (99, 10))):
+            run = Run(program, (pairs((9, 1, 0)),))
+            run.go(way)
+            run.hold()
+            self.assertEqual((run.square, run.stand(), run.rest()), ((4, 1), stand, ((way, (4, 1)), (stand, (0, 1)))))
+
     def test_known_one(self):
         program = (pairs((0,)), ((pairs((10,)), (2, 1), (0, 1), False),))
         run = Run(program, (pairs((9, 1, 0)),))
