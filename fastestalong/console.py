@@ -65,7 +65,7 @@ def rest_text(run, given):
 
 def journal_text(run, given):
     """The journal of the run."""
-    return "\n".join([f"{entry[0]} {numbers_text(entry[1:])}" for entry in run.journal])
+    return "\n".join([entry[0] + " " + numbers_text(entry[1:]) for entry in run.journal])
 
 
 def both_text(run, given):
